@@ -30,7 +30,6 @@ type model struct {
 	left     int64
 	fuse     int   // below 0: there is none
 	underWay facts // what else may be there behind a crash
-	doubt    bool  // that is held by another node
 }
 
 // inMask tells whether a node is in a mask.
@@ -51,7 +50,7 @@ func (m *model) put(next facts) api.Errno {
 		m.fuse--
 		m.underWay = next
 	}
-	m.is, m.doubt = next, false
+	m.is = next
 	return api.OK
 }
 
@@ -62,11 +61,6 @@ func (m *model) ask(from int, q api.Msg) api.Errno {
 	}
 	if from == m.is.holder {
 		if q.Seq == 0 && q.Epoch == m.is.epoch {
-			if m.doubt {
-				if e := m.put(m.is); e != api.OK {
-					return e
-				}
-			}
 			m.left = m.wait
 			return api.OK
 		}
@@ -79,10 +73,13 @@ func (m *model) ask(from int, q api.Msg) api.Errno {
 	e := m.put(facts{epoch: m.is.epoch + 1, holder: from, mask: m.is.mask})
 	if e == api.OK {
 		m.left = m.wait
-	} else if was := m.is.holder; e == api.ErrDown && was != from {
-		m.doubt = true
 	}
 	return e
+}
+
+// doubt tells whether the device died when it was to say that another node is granted an epoch, and may say so behind a crash. Who holds the elder one is granted it for longer by then (P14.3, case 2), and the other one needn't wait for that behind the crash.
+func (m *model) doubt() bool {
+	return m.underWay.epoch > m.is.epoch && m.underWay.holder != m.is.holder
 }
 
 // change is what comes of an MsgChange.
@@ -147,7 +144,7 @@ func (m *model) crash(t *testing.T, what string, d *sector.Dev, keep []sector.Ke
 	if says(s) == m.underWay.said(m.wait) && m.underWay.gen != m.is.gen && gen(t, d) == m.underWay.gen {
 		m.is = m.underWay
 	}
-	m.left, m.fuse, m.underWay, m.doubt = m.wait, -1, m.is, false
+	m.left, m.fuse, m.underWay = m.wait, -1, m.is
 	checks(t, what, s, d, m.is, m.left)
 	return s
 }
@@ -172,7 +169,7 @@ func someKeep(r *rand.Rand) []sector.Keep {
 	return []sector.Keep{{How: r.Intn(3), N: r.Intn(api.SectorSize)}}[:r.Intn(2)]
 }
 
-// granted checks what is granted: each epoch to one node alone, another node's only when a time as long as is waited has gone since the last grant.
+// granted checks what is granted: each epoch to one node alone, another node's only when a time as long as is waited has gone since the last grant. (One for longer that the model doubts isn't counted.)
 type granted struct {
 	to    map[int64]int // by epoch
 	last  int           // the node
@@ -180,7 +177,7 @@ type granted struct {
 }
 
 // grant checks an answer.
-func (g *granted) grant(t *testing.T, what string, from int, a api.Msg, ok bool, wait int64) {
+func (g *granted) grant(t *testing.T, what string, from int, a api.Msg, ok bool, m *model) {
 	t.Helper()
 	if !ok || a.Kind != api.MsgGrant || a.E != api.OK {
 		return
@@ -188,7 +185,7 @@ func (g *granted) grant(t *testing.T, what string, from int, a api.Msg, ok bool,
 	if who, is := g.to[a.Epoch]; is && who != from || a.Client != from {
 		t.Errorf("%s: epoch %d was granted to %d, and is to %d: %+v", what, a.Epoch, who, from, a)
 	}
-	if len(g.to) > 0 && g.last != from && g.ticks < wait {
+	if len(g.to) > 0 && g.last != from && g.ticks < m.wait {
 		t.Errorf("%s: epoch %d is granted to %d, %d ticks behind a grant to %d", what, a.Epoch, from, g.ticks, g.last)
 	}
 	for epoch := range g.to {
@@ -196,7 +193,10 @@ func (g *granted) grant(t *testing.T, what string, from int, a api.Msg, ok bool,
 			t.Errorf("%s: epoch %d was granted ahead of %d", what, epoch, a.Epoch)
 		}
 	}
-	g.to[a.Epoch], g.last, g.ticks = from, from, 0
+	g.to[a.Epoch] = from
+	if !m.doubt() {
+		g.last, g.ticks = from, 0
+	}
 }
 
 // P14.1 to P14.5: long rows of messages, with ticks, deaths and crashes in between, are answered as the model answers them, and what follows holds.
@@ -224,7 +224,7 @@ func TestRows(t *testing.T) {
 			if wa, wok := m.take(from, q); a != wa || ok != wok {
 				t.Fatalf("%s: from %d: %+v: %+v, %v, not %+v, %v", what, from, q, a, ok, wa, wok)
 			}
-			g.grant(t, what, from, a, ok, m.wait)
+			g.grant(t, what, from, a, ok, m)
 			if is := says(s); is != m.is.said(m.left) || is.mask == 0 {
 				t.Fatalf("%s: %+v, not %+v", what, is, m.is.said(m.left))
 			}
@@ -265,7 +265,7 @@ func FuzzTake(f *testing.F) {
 			if wa, wok := m.take(from, q); a != wa || ok != wok {
 				t.Fatalf("from %d: %+v: %+v, %v, not %+v, %v", from, q, a, ok, wa, wok)
 			}
-			g.grant(t, "row", from, a, ok, m.wait)
+			g.grant(t, "row", from, a, ok, m)
 			if d.Dead() {
 				s = m.crash(t, "crash", d, []sector.Keep{{How: 2, N: keep}})
 			}

@@ -657,57 +657,55 @@ func TestDead(t *testing.T) {
 	}
 }
 
-// P14.5: where the device died when another node was to be granted an epoch, who held it isn't granted it for longer: that other one may hold it behind a crash, and doesn't wait then.
-func TestUnsure(t *testing.T) {
-	for fuse := range 2 {
-		for _, kept := range []bool{false, true} {
-			what := fmt.Sprint("fuse ", fuse, ", kept ", kept)
-			d := laid(t, some())
-			s := opened(t, d, 2)
-			ticks(s, 2)
-			d.Fuse(fuse)
-			refuses(t, what, s, 1, ask(7, 1))
-			refuses(t, what, s, 0, ask(7, 0))
-			refuses(t, what, s, 0, ask(7, 0))
-			refuses(t, what, s, 0, ask(7, 1))
-			takes(t, what, s, 0, change(7, 1, 4), api.OK)
-			refuses(t, what, s, 0, change(7, 1, 5))
-			refuses(t, what, s, 0, ask(7, 0))
-			checks(t, what, s, d, some(), 0)
-			if !kept {
-				d.Crash(nil)
-				s = opened(t, d, 2)
+// P14.3, case 2: who holds the epoch and asks for longer is told so on a device, too, that died when another node was to be granted one: nothing is put for that.
+func TestLongerDead(t *testing.T) {
+	for _, wait := range []int64{1, 2, 5} {
+		for fuse := range 2 {
+			for _, keep := range [][]sector.Keep{nil, {{How: 1}}, {{How: 2, N: 6}}} {
+				what := fmt.Sprint("wait ", wait, ", fuse ", fuse, ", ", keep)
+				d := laid(t, some())
+				s := opened(t, d, wait)
+				ticks(s, wait)
+				d.Fuse(fuse)
+				refuses(t, what, s, 1, ask(7, 1))
+				checks(t, what, s, d, some(), 0)
+				for range 2 {
+					takes(t, what, s, 0, ask(7, 0), api.OK)
+					checks(t, what, s, d, some(), wait)
+					takes(t, what, s, 1, ask(7, 1), api.ErrBusy)
+					refuses(t, what, s, 0, ask(7, 1))
+					refuses(t, what, s, 0, ask(6, 0))
+					refuses(t, what, s, 0, change(7, 1, 5))
+					ticks(s, 1)
+					checks(t, what, s, d, some(), wait-1)
+				}
+				ticks(s, wait-1)
+				refuses(t, what, s, 1, ask(7, 0))
 				takes(t, what, s, 0, ask(7, 0), api.OK)
-				takes(t, what, s, 1, ask(7, 1), api.ErrBusy)
-				checks(t, what, s, d, some(), 2)
-				continue
-			}
-			d.Crash([]sector.Keep{{How: 1}})
-			s = opened(t, d, 2)
-			if fuse == 1 {
-				checks(t, what, s, d, facts{8, 1, 3, 0, 13}, 2)
-				takes(t, what, s, 0, ask(7, 0), api.ErrBusy)
-				takes(t, what, s, 1, ask(7, 1), api.OK)
-				checks(t, what, s, d, facts{9, 1, 3, 0, 14}, 2)
+				checks(t, what, s, d, some(), wait)
+				d.Crash(keep)
+				behind := some()
+				if fuse == 1 && keep != nil && keep[0].How == 1 {
+					behind = facts{8, 1, 3, 0, 13}
+				}
+				checks(t, what, opened(t, d, wait), d, behind, wait)
 			}
 		}
 	}
 }
 
-// P14.5: a device that lives again without the witness being opened anew makes sure who holds it, at the next Put of any kind.
-func TestSureAgain(t *testing.T) {
+// P14.3, case 2: nothing is written for it where such a device lives again and the witness wasn't opened anew, and what needs a Put is put then, as ever.
+func TestLongerAlive(t *testing.T) {
 	for i, x := range []struct {
 		from int
 		m    api.Msg
 		next facts
 		left int64
-		more int64 // generations, once that node asks for longer
 	}{
-		{0, ask(7, 0), facts{7, 0, 3, 4, 13}, 2, 0},
-		{0, change(7, 3, 9), facts{7, 0, 3, 9, 13}, 0, 0},
-		{0, change(7, 3, 4), some(), 0, 1},
-		{0, ask(7, 1), facts{8, 0, 3, 0, 13}, 2, 0},
-		{1, ask(7, 1), facts{8, 1, 3, 0, 13}, 2, 0},
+		{0, change(7, 3, 9), facts{7, 0, 3, 9, 13}, 0},
+		{0, ask(7, 1), facts{8, 0, 3, 0, 13}, 2},
+		{1, ask(7, 1), facts{8, 1, 3, 0, 13}, 2},
+		{1, lost(), facts{7, -1, 1, 4, 13}, 0},
 	} {
 		for _, keep := range [][]sector.Keep{nil, {{How: 1}}} {
 			what := fmt.Sprint("case ", i, ", ", keep)
@@ -717,18 +715,28 @@ func TestSureAgain(t *testing.T) {
 			d.Fuse(1)
 			refuses(t, what, s, 1, ask(7, 1))
 			d.Crash(keep)
+			was := bytesAll(t, d)
+			takes(t, what, s, 0, ask(7, 0), api.OK)
+			if is := bytesAll(t, d); is != was || len(d.Pending()) != 0 || says(s) != some().said(2) {
+				t.Errorf("%s: %q, not %q; pending %v; %+v", what, is, was, d.Pending(), says(s))
+			}
+			ticks(s, 2)
 			takes(t, what, s, x.from, x.m, api.OK)
-			if i != 2 { // that needs no act
-				checks(t, what, s, d, x.next, x.left)
-			}
-			for range 2 {
-				takes(t, what, s, x.from, ask(x.next.epoch, 0), api.OK)
-				next := x.next
-				next.gen += x.more
-				checks(t, what, s, d, next, 2)
-			}
+			checks(t, what, s, d, x.next, x.left)
 		}
 	}
+}
+
+// bytesAll tells all that a device has.
+func bytesAll(t *testing.T, d *sector.Dev) string {
+	t.Helper()
+	all := ""
+	for i := range d.Sectors() {
+		b, e := d.Read(i)
+		want(t, "Read", e, api.OK)
+		all += string(b)
+	}
+	return all
 }
 
 // P14.2: where the cell has no more generations, that is told of what would be put, and nothing is changed; the others are answered as ever.
